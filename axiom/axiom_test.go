@@ -1,7 +1,6 @@
 package axiom
 
 import (
-	"maps"
 	"math"
 	"slices"
 	"strconv"
@@ -10,7 +9,7 @@ import (
 	"burgage/api"
 	"burgage/order"
 	"burgage/rel"
-	"burgage/script"
+	"burgage/sample"
 	"burgage/set"
 )
 
@@ -27,136 +26,6 @@ const (
 
 // asks: what each level asks, by its number, by hand.
 var asks = []int{0, session, session | transitive, session | rivalsBit, session | prefix, session | transitive | rivalsBit, session | prefix | rivalsBit, session | total, inTime | transitive, inTime | prefix, inTime | prefix | rivalsBit, inTime | total}
-
-// far: numbers that no transaction has, and no level, the nearest and the farthest ones.
-var far = []int{math.MinInt, math.MinInt + 7, -1 << 32, -64, -1, 64, 65, 128, 1 << 32, 1<<32 + 1, math.MaxInt}
-
-// parsed: the Orders of a history that is told as a text.
-func parsed(t *testing.T, text string) *order.Orders {
-	t.Helper()
-	h, line, e := script.Parse(text)
-	if e != api.OK {
-		t.Fatal("the text is wrong", line, e)
-	}
-	return follow(t, h)
-}
-
-// follow: the Orders of a history that may be.
-func follow(t *testing.T, h []api.Txn) *order.Orders {
-	t.Helper()
-	o, e := order.Of(h)
-	if e != api.OK {
-		t.Fatal("the history is wrong", h, e)
-	}
-	return o
-}
-
-// pairs: the relation in which the first one of each pair is seen by the second one.
-func pairs(l ...[2]int) rel.Rel {
-	var r rel.Rel
-	for _, p := range l {
-		r[p[0]] |= 1 << p[1]
-	}
-	return r
-}
-
-// mixed: numbers that are mixed, always the same ones.
-type mixed uint64
-
-func (m *mixed) next(below int) int {
-	*m = *m*6364136223846793005 + 1442695040888963407
-	return int(*m>>33) % below
-}
-
-// row: so many numbers, from 0 on, rising, or in a mixed order.
-func (m *mixed) row(n int) []int {
-	var l []int
-	rising := m.next(2) == 0
-	for i := range n {
-		at := m.next(i + 1)
-		if rising {
-			at = i
-		}
-		l = slices.Insert(l, at, i)
-	}
-	return l
-}
-
-// vis: a relation by which each sees some of those ahead of it, that keeps some of what is asked.
-func (m *mixed) vis(row []int) rel.Rel {
-	r, few := rel.Rel{}, 1+m.next(4)
-	for i, a := range row {
-		for _, b := range row[i+1:] {
-			if m.next(4) < few {
-				r.Add(a, b)
-			}
-		}
-	}
-	switch m.next(4) {
-	case 0:
-		return r.Closure()
-	case 1:
-		return r.Union(rel.Chain(row...).Then(r))
-	}
-	return r
-}
-
-// stamped: so many transactions of mixed sessions, at once or not, each with a read of a key that nobody writes to, so that there is always an operation.
-func (m *mixed) stamped(txns int) []api.Txn {
-	var h []api.Txn
-	sessions, length, over := 1+m.next(4), 1+m.next(8), map[int]int{}
-	for i := range txns {
-		begin := 100*i + 100
-		s := m.next(sessions)
-		for over[s] > begin {
-			s++
-		}
-		over[s] = begin + 100*m.next(length) + 1 + i
-		h = append(h, api.Txn{Session: s, Begin: begin, Commit: over[s], Ops: []api.Op{{Key: 63}}})
-	}
-	return h
-}
-
-// made: a history that is Sound, an order of it, and what is seen, by which both are right.
-func (m *mixed) made(txns, keys int) ([]api.Txn, []int, rel.Rel) {
-	h, row := m.stamped(txns), m.row(txns)
-	vis := m.vis(row)
-	for key := range keys {
-		var writers []int
-		for _, i := range row {
-			if m.next(2) == 0 {
-				h[i].Ops = append(h[i].Ops, read(key, lastSeen(vis, writers, i)))
-			}
-			if m.next(3) == 0 {
-				writers = append(writers, i)
-				h[i].Ops = append(h[i].Ops, api.Op{Write: true, Key: key, Value: value(i, key)})
-			}
-		}
-	}
-	return h, row, vis
-}
-
-// lastSeen: the last one of some that is seen; -1: none is.
-func lastSeen(vis rel.Rel, some []int, i int) int {
-	from := -1
-	for _, a := range some {
-		if vis.Has(a, i) {
-			from = a
-		}
-	}
-	return from
-}
-
-// read: a read of a key, of what a transaction writes to it; of -1: of what is there at first.
-func read(key, from int) api.Op {
-	if from < 0 {
-		return api.Op{Key: key}
-	}
-	return api.Op{Key: key, Value: value(from, key)}
-}
-
-// value: what a transaction writes to a key.
-func value(i, key int) int { return 64*key + i + 1 }
 
 // The model: each told by its own words in the document, pair by pair.
 
@@ -197,7 +66,7 @@ func right(o *order.Orders, row []int, vis rel.Rel) bool {
 					some = append(some, a)
 				}
 			}
-			if lastSeen(vis, some, i) != r.From {
+			if sample.Last(vis, some, i) != r.From {
 				return false
 			}
 		}
@@ -264,21 +133,6 @@ func lists(n int, vis rel.Rel) [][]int {
 
 // sameLists: whether lists are the same, empty ones be they nil or not.
 func sameLists(a, b [][]int) bool { return slices.EqualFunc(a, b, slices.Equal[[]int]) }
-
-// orders: all rows of the numbers from 0 to n - 1.
-func orders(n int) [][]int {
-	all := [][]int{nil}
-	for i := range n {
-		var next [][]int
-		for _, row := range all {
-			for at := range i + 1 {
-				next = append(next, slices.Insert(slices.Clone(row), at, i))
-			}
-		}
-		all = next
-	}
-	return all
-}
 
 // counted: how often each of some things was so, and how often not.
 type counted map[string][2]int
@@ -380,15 +234,15 @@ func TestP12_1Row(t *testing.T) {
 			t.Errorf("Row(%d, %v) = %v", c.n, c.row, got)
 		}
 	}
-	m := mixed(1)
+	m := sample.Mixed(1)
 	for n := range 65 {
-		row := m.row(n)
+		row := m.Row(n)
 		if !Row(n, row) || n > 0 && Row(n-1, row) || n < 64 && Row(n+1, row) {
 			t.Errorf("Row of %d: %v", n, row)
 		}
 		for i := range row {
 			was := row[i]
-			for _, wrong := range append([]int{n, row[(i+1)%n], row[(i+n-1)%n]}, far...) {
+			for _, wrong := range append([]int{n, row[(i+1)%n], row[(i+n-1)%n]}, sample.Far()...) {
 				row[i] = wrong
 				if got := Row(n, row); got != (wrong == was) {
 					t.Errorf("Row(%d, %v) = %v", n, row, got)
@@ -396,7 +250,7 @@ func TestP12_1Row(t *testing.T) {
 			}
 			row[i] = was
 		}
-		for _, more := range append([]int{0, n / 2, n - 1, n}, far...) {
+		for _, more := range append([]int{0, n / 2, n - 1, n}, sample.Far()...) {
 			if n > 0 && Row(n, append(slices.Clone(row), more)) {
 				t.Errorf("Row of %d, and %d", n, more)
 			}
@@ -406,11 +260,11 @@ func TestP12_1Row(t *testing.T) {
 
 // All relations of three numbers, in all orders: of whatever is seen it is told whether it is right, and what is kept.
 func TestP12_1And2OfAllThatIsSeen(t *testing.T) {
-	m, c := mixed(2), counted{}
+	m, c := sample.Mixed(2), counted{}
 	for i := range 30 {
-		h, _, _ := m.made(3, 1+i%2)
-		o := follow(t, h)
-		for _, row := range orders(3) {
+		h, _, _ := m.Right(3, 1+i%2)
+		o := sample.Follow(t, h)
+		for _, row := range sample.Rows(3) {
 			for bits := range 1 << 9 {
 				vis := rel.Rel{set.Set(bits & 7), set.Set(bits >> 3 & 7), set.Set(bits >> 6)}
 				verify(t, o, row, vis, c)
@@ -422,14 +276,14 @@ func TestP12_1And2OfAllThatIsSeen(t *testing.T) {
 
 // What is right by its making, and what isn't any more, because of one thing.
 func TestP12_1And2OfMixed(t *testing.T) {
-	m, c := mixed(3), counted{}
+	m, c := sample.Mixed(3), counted{}
 	for i := range 2500 {
-		n := m.next(7)
+		n := m.Next(7)
 		if i%100 == 0 {
-			n = 20 + m.next(45)
+			n = 20 + m.Next(45)
 		}
-		h, row, vis := m.made(n, 1+i%3)
-		o := follow(t, h)
+		h, row, vis := m.Right(n, 1+i%3)
+		o := sample.Follow(t, h)
 		if !o.Sound || !right(o, row, vis) {
 			t.Fatal("the model says that it isn't right", h, row, vis)
 		}
@@ -438,10 +292,10 @@ func TestP12_1And2OfMixed(t *testing.T) {
 			continue
 		}
 		seen := vis
-		seen[m.next(n)] ^= 1 << m.next(n)
+		seen[m.Next(n)] ^= 1 << m.Next(n)
 		verify(t, o, row, seen, c)
 		other := slices.Clone(row)
-		k := m.next(n - 1)
+		k := m.Next(n - 1)
 		other[k], other[k+1] = other[k+1], other[k]
 		verify(t, o, other, vis, c)
 		other[k] = other[k+1]
@@ -455,8 +309,8 @@ func TestP12_1And2OfMixed(t *testing.T) {
 // The document's words, one by one.
 func TestP12_1Right(t *testing.T) {
 	// 1 overwrites what 0 writes, 2 reads of 1, 3 of 0, and 4 what is there at first.
-	o := parsed(t, "txn 0 0 20\nw 0 1\ntxn 1 1 21\nw 0 2\ntxn 2 2 22\nr 0 2\ntxn 3 3 23\nr 0 1\ntxn 4 4 24\nr 0 0\nr 9 0\n")
-	row, vis := []int{0, 1, 2, 3, 4}, pairs([2]int{1, 2}, [2]int{0, 3})
+	o := sample.Parsed(t, "txn 0 0 20\nw 0 1\ntxn 1 1 21\nw 0 2\ntxn 2 2 22\nr 0 2\ntxn 3 3 23\nr 0 1\ntxn 4 4 24\nr 0 0\nr 9 0\n")
+	row, vis := []int{0, 1, 2, 3, 4}, sample.Pairs([2]int{1, 2}, [2]int{0, 3})
 	cases := []struct {
 		what string
 		row  []int
@@ -464,22 +318,22 @@ func TestP12_1Right(t *testing.T) {
 		want bool
 	}{
 		{"who reads of one sees that one", row, vis, true},
-		{"of two that are seen the last one is read of", row, vis.Union(pairs([2]int{0, 2})), true},
-		{"of two that are seen the first one is read of", row, vis.Union(pairs([2]int{1, 3})), false},
-		{"of two that are seen the first one is read of, that is the last one in another order", []int{1, 0, 2, 3, 4}, vis.Union(pairs([2]int{1, 3})), true},
-		{"of two that are seen the last one is read of, that is the first one in another order", []int{1, 0, 2, 3, 4}, vis.Union(pairs([2]int{0, 2})), false},
-		{"who reads of nobody sees one that writes to another key", row, vis.Union(pairs([2]int{2, 4}, [2]int{3, 4})), true},
-		{"who reads of nobody sees one that writes to that key", row, vis.Union(pairs([2]int{0, 4})), false},
-		{"who reads of one doesn't see that one", row, pairs([2]int{1, 2}), false},
-		{"who reads of one sees another one", row, pairs([2]int{1, 2}, [2]int{1, 3}), false},
+		{"of two that are seen the last one is read of", row, vis.Union(sample.Pairs([2]int{0, 2})), true},
+		{"of two that are seen the first one is read of", row, vis.Union(sample.Pairs([2]int{1, 3})), false},
+		{"of two that are seen the first one is read of, that is the last one in another order", []int{1, 0, 2, 3, 4}, vis.Union(sample.Pairs([2]int{1, 3})), true},
+		{"of two that are seen the last one is read of, that is the first one in another order", []int{1, 0, 2, 3, 4}, vis.Union(sample.Pairs([2]int{0, 2})), false},
+		{"who reads of nobody sees one that writes to another key", row, vis.Union(sample.Pairs([2]int{2, 4}, [2]int{3, 4})), true},
+		{"who reads of nobody sees one that writes to that key", row, vis.Union(sample.Pairs([2]int{0, 4})), false},
+		{"who reads of one doesn't see that one", row, sample.Pairs([2]int{1, 2}), false},
+		{"who reads of one sees another one", row, sample.Pairs([2]int{1, 2}, [2]int{1, 3}), false},
 		{"nobody is seen", row, rel.Rel{}, false},
 		{"who is seen comes behind", []int{0, 2, 1, 3, 4}, vis, false},
-		{"who is seen comes behind, and nothing is read", row, vis.Union(pairs([2]int{4, 2})), false},
-		{"one sees itself", row, vis.Union(pairs([2]int{4, 4})), false},
-		{"one sees itself, that writes", row, vis.Union(pairs([2]int{0, 0})), false},
-		{"one that isn't there is seen", row, vis.Union(pairs([2]int{5, 2})), false},
-		{"one that isn't there sees", row, vis.Union(pairs([2]int{0, 5})), false},
-		{"two that aren't there see each other", row, vis.Union(pairs([2]int{62, 63})), false},
+		{"who is seen comes behind, and nothing is read", row, vis.Union(sample.Pairs([2]int{4, 2})), false},
+		{"one sees itself", row, vis.Union(sample.Pairs([2]int{4, 4})), false},
+		{"one sees itself, that writes", row, vis.Union(sample.Pairs([2]int{0, 0})), false},
+		{"one that isn't there is seen", row, vis.Union(sample.Pairs([2]int{5, 2})), false},
+		{"one that isn't there sees", row, vis.Union(sample.Pairs([2]int{0, 5})), false},
+		{"two that aren't there see each other", row, vis.Union(sample.Pairs([2]int{62, 63})), false},
 		{"one is missing", row[:4], vis, false},
 		{"one is there twice", []int{0, 1, 2, 3, 4, 4}, vis, false},
 		{"one is there twice, for another one", []int{0, 1, 2, 3, 3}, vis, false},
@@ -497,7 +351,7 @@ func TestP12_1Right(t *testing.T) {
 
 func TestP12_1Kept(t *testing.T) {
 	// By Session 0 comes ahead of 1, by Time 0 of 1, 2 and 3; 0 and 2 write to one key, and 1 and 3; nobody reads of anybody.
-	o := parsed(t, "txn 0 0 1\nw 0 1\ntxn 0 4 20\nw 1 2\ntxn 1 5 21\nw 0 3\ntxn 2 6 22\nw 1 4\n")
+	o := sample.Parsed(t, "txn 0 0 1\nw 0 1\ntxn 0 4 20\nw 1 2\ntxn 1 5 21\nw 0 3\ntxn 2 6 22\nw 1 4\n")
 	row := []int{0, 1, 2, 3}
 	cases := []struct {
 		what string
@@ -507,16 +361,16 @@ func TestP12_1Kept(t *testing.T) {
 	}{
 		{"nobody is seen", row, rel.Rel{}, transitive | prefix},
 		{"by Session", row, rel.Chain(0, 1), session | transitive | prefix},
-		{"by Time", row, pairs([2]int{0, 1}, [2]int{0, 2}, [2]int{0, 3}), session | inTime | transitive | prefix},
-		{"by Time, but for one", row, pairs([2]int{0, 1}, [2]int{0, 2}), session | transitive | prefix},
-		{"by Rivals", row, pairs([2]int{0, 2}, [2]int{1, 3}), transitive | rivalsBit},
-		{"by Rivals, but for one", row, pairs([2]int{0, 2}), transitive | prefix},
-		{"by Rivals, the other way", []int{3, 2, 1, 0}, pairs([2]int{2, 0}, [2]int{3, 1}), transitive | rivalsBit},
-		{"by Rivals, the wrong way", []int{3, 2, 1, 0}, pairs([2]int{3, 1}), transitive | prefix},
-		{"a way that isn't gone on", row, pairs([2]int{1, 2}, [2]int{2, 3}), 0},
+		{"by Time", row, sample.Pairs([2]int{0, 1}, [2]int{0, 2}, [2]int{0, 3}), session | inTime | transitive | prefix},
+		{"by Time, but for one", row, sample.Pairs([2]int{0, 1}, [2]int{0, 2}), session | transitive | prefix},
+		{"by Rivals", row, sample.Pairs([2]int{0, 2}, [2]int{1, 3}), transitive | rivalsBit},
+		{"by Rivals, but for one", row, sample.Pairs([2]int{0, 2}), transitive | prefix},
+		{"by Rivals, the other way", []int{3, 2, 1, 0}, sample.Pairs([2]int{2, 0}, [2]int{3, 1}), transitive | rivalsBit},
+		{"by Rivals, the wrong way", []int{3, 2, 1, 0}, sample.Pairs([2]int{3, 1}), transitive | prefix},
+		{"a way that isn't gone on", row, sample.Pairs([2]int{1, 2}, [2]int{2, 3}), 0},
 		{"a way that is gone on, but not from the beginning", row, rel.Chain(1, 2, 3), transitive},
-		{"one ahead of one that is seen", []int{1, 0, 2, 3}, pairs([2]int{0, 3}, [2]int{0, 2}), transitive},
-		{"all ahead of one that is seen", []int{1, 0, 2, 3}, pairs([2]int{0, 3}, [2]int{0, 2}, [2]int{1, 2}, [2]int{1, 3}), transitive | prefix | rivalsBit},
+		{"one ahead of one that is seen", []int{1, 0, 2, 3}, sample.Pairs([2]int{0, 3}, [2]int{0, 2}), transitive},
+		{"all ahead of one that is seen", []int{1, 0, 2, 3}, sample.Pairs([2]int{0, 3}, [2]int{0, 2}, [2]int{1, 2}, [2]int{1, 3}), transitive | prefix | rivalsBit},
 		{"all", row, rel.Chain(row...), every},
 		{"all, but in another order", []int{1, 0, 2, 3}, rel.Chain(1, 0, 2, 3), transitive | prefix | rivalsBit | total},
 		{"all but one", row, rel.Chain(0, 1, 2).Union(rel.Chain(0, 1, 3)), every &^ total},
@@ -533,8 +387,8 @@ func TestP12_1Kept(t *testing.T) {
 func TestP12_2NotSound(t *testing.T) {
 	for _, wrong := range []string{"r 5 0\nw 5 9\nr 5 0\n", "r 5 9\nw 5 9\n", "w 5 8\nw 5 9\nr 5 8\n", "r 5 7\nw 4 8\n"} {
 		text := "txn 0 0 1\nw 5 7\nw 0 1\nw 5 6\ntxn 1 2 3\nr 0 1\n"
-		sound := parsed(t, text)
-		o := parsed(t, text+"txn 2 4 5\n"+wrong)
+		sound := sample.Parsed(t, text)
+		o := sample.Parsed(t, text+"txn 2 4 5\n"+wrong)
 		row := []int{0, 1, 2}
 		vis := rel.Chain(row...)
 		if wrong[:3] == "r 5" && wrong[4] == '0' {
@@ -553,19 +407,19 @@ func TestP12_2NotSound(t *testing.T) {
 
 // The document's example: a history without transactions is accepted by each level, and by nothing that is no level.
 func TestP12_2And3NoTransactions(t *testing.T) {
-	o := follow(t, nil)
+	o := sample.Follow(t, nil)
 	for l := range api.Level(12) {
 		if !Holds(o, l, nil, rel.Rel{}) || !Holds(o, l, []int{}, rel.Rel{}) || !Accepts(o, l, api.Witness{}) || !Accepts(o, l, api.Witness{Order: []int{}, Sees: [][]int{}}) {
 			t.Error("not accepted", l)
 		}
-		if Holds(o, l, []int{0}, rel.Rel{}) || Holds(o, l, nil, pairs([2]int{0, 1})) || Accepts(o, l, api.Witness{Sees: [][]int{nil}}) || Accepts(o, l, api.Witness{Order: []int{0}}) {
+		if Holds(o, l, []int{0}, rel.Rel{}) || Holds(o, l, nil, sample.Pairs([2]int{0, 1})) || Accepts(o, l, api.Witness{Sees: [][]int{nil}}) || Accepts(o, l, api.Witness{Order: []int{0}}) {
 			t.Error("accepted", l)
 		}
 	}
 	if !Right(o, nil, rel.Rel{}) || Kept(o, nil, rel.Rel{}) != every {
 		t.Error("Kept", Kept(o, nil, rel.Rel{}))
 	}
-	for _, l := range append([]int{12, 13, 16, 256, 256 + 11}, far...) {
+	for _, l := range append([]int{12, 13, 16, 256, 256 + 11}, sample.Far()...) {
 		if Holds(o, api.Level(l), nil, rel.Rel{}) || Accepts(o, api.Level(l), api.Witness{}) {
 			t.Error("accepted by what is no level", l)
 		}
@@ -577,19 +431,19 @@ func TestP12_2And3NoTransactions(t *testing.T) {
 
 // All that there may be: 64 transactions.
 func TestP12Of64(t *testing.T) {
-	m := mixed(4)
-	row := m.row(64)
+	m := sample.Mixed(4)
+	row := m.Row(64)
 	var h []api.Txn
 	for i := range 64 {
 		h = append(h, api.Txn{Session: i, Begin: 1 + i, Commit: 100 + i})
 	}
 	for k, i := range row {
-		h[i].Ops = []api.Op{{Key: 0}, {Write: true, Key: 0, Value: value(i, 0)}}
+		h[i].Ops = []api.Op{{Key: 0}, sample.Write(0, i)}
 		if k > 0 {
-			h[i].Ops[0] = read(0, row[k-1])
+			h[i].Ops[0] = sample.Read(0, row[k-1])
 		}
 	}
-	o, vis := follow(t, h), rel.Chain(row...)
+	o, vis := sample.Follow(t, h), rel.Chain(row...)
 	w := Witness(row, vis)
 	for l := range api.Level(12) {
 		if !Holds(o, l, row, vis) || !Accepts(o, l, w) {
@@ -605,7 +459,7 @@ func TestP12Of64(t *testing.T) {
 	if Kept(o, row, vis) != every || !sameLists(w.Sees, lists(64, vis)) {
 		t.Error("Kept", Kept(o, row, vis), w)
 	}
-	for _, wrong := range far {
+	for _, wrong := range sample.Far() {
 		w := Witness(row, vis)
 		w.Sees[9] = append(w.Sees[9], wrong)
 		if Accepts(o, 0, w) {
@@ -615,7 +469,7 @@ func TestP12Of64(t *testing.T) {
 }
 
 func TestP12_3Witness(t *testing.T) {
-	vis := pairs([2]int{3, 1}, [2]int{0, 1}, [2]int{2, 1}, [2]int{1, 0}, [2]int{2, 2}, [2]int{9, 3}, [2]int{63, 3}, [2]int{0, 9})
+	vis := sample.Pairs([2]int{3, 1}, [2]int{0, 1}, [2]int{2, 1}, [2]int{1, 0}, [2]int{2, 2}, [2]int{9, 3}, [2]int{63, 3}, [2]int{0, 9})
 	row := []int{2, 3, 1, 0}
 	w := Witness(row, vis)
 	if !slices.Equal(w.Order, row) || !sameLists(w.Sees, [][]int{{1}, {0, 2, 3}, {2}, {9, 63}}) {
@@ -624,10 +478,10 @@ func TestP12_3Witness(t *testing.T) {
 	if w := Witness([]int{0}, rel.Rel{}); !slices.Equal(w.Order, []int{0}) || len(w.Sees) != 1 || len(w.Sees[0]) != 0 {
 		t.Error("Witness of one", w)
 	}
-	m := mixed(5)
+	m := sample.Mixed(5)
 	for n := range 65 {
-		row := m.row(n)
-		vis := m.vis(row)
+		row := m.Row(n)
+		vis := m.Vis(row)
 		if w := Witness(row, vis); !slices.Equal(w.Order, row) || !sameLists(w.Sees, lists(n, vis)) {
 			t.Error("Witness", n, w)
 		}
@@ -638,7 +492,7 @@ func TestP12_3Witness(t *testing.T) {
 const three = "txn 0 0 1\nw 0 1\ntxn 0 2 3\nw 0 2\ntxn 1 4 5\nr 0 2\n"
 
 func TestP12_3Accepts(t *testing.T) {
-	o := parsed(t, three)
+	o := sample.Parsed(t, three)
 	row := []int{0, 1, 2}
 	cases := []struct {
 		what string
@@ -672,7 +526,7 @@ func TestP12_3Accepts(t *testing.T) {
 			}
 		}
 	}
-	for _, wrong := range append([]int{3, 4, 63}, far...) {
+	for _, wrong := range append([]int{3, 4, 63}, sample.Far()...) {
 		for i := range 3 {
 			w := api.Witness{Order: row, Sees: [][]int{{}, {0}, {0, 1}}}
 			w.Sees[i] = append(w.Sees[i], wrong)
@@ -695,11 +549,11 @@ func TestP12_3Accepts(t *testing.T) {
 
 // P2: what is handed in stays as it was, its spare room too; what is answered is apart, and the same each time.
 func TestP2Apart(t *testing.T) {
-	m := mixed(6)
+	m := sample.Mixed(6)
 	for range 300 {
-		n := m.next(7)
-		h, row, vis := m.made(n, 2)
-		o, was := follow(t, h), follow(t, h)
+		n := m.Next(7)
+		h, row, vis := m.Right(n, 2)
+		o, was := sample.Follow(t, h), sample.Follow(t, h)
 		room := append(slices.Clone(row), 77, 78, 79)
 		w, other := Witness(room[:n], vis), Witness(room[:n], vis)
 		for l := range api.Level(12) {
@@ -729,40 +583,34 @@ func TestP2Apart(t *testing.T) {
 		if !slices.Equal(other.Order, row) {
 			t.Fatal("what was handed in is kept", other)
 		}
-		if !same(o, was) {
+		if !sample.Same(o, was) {
 			t.Fatal("the Orders are changed", o, was)
 		}
 	}
 	// Who is there twice stays so, and in that row.
-	o, order := parsed(t, three), []int{0, 1, 2, 7}
+	o, order := sample.Parsed(t, three), []int{0, 1, 2, 7}
 	seen := []int{1, 0, 1, 9}
 	if !Accepts(o, 0, api.Witness{Order: order[:3], Sees: [][]int{nil, {0}, seen[:3]}}) || !slices.Equal(order, []int{0, 1, 2, 7}) || !slices.Equal(seen, []int{1, 0, 1, 9}) {
 		t.Error("the witness is changed", order, seen)
 	}
 }
 
-// same: whether two Orders are the same.
-func same(a, b *order.Orders) bool {
-	return a.N == b.N && a.Session == b.Session && a.Time == b.Time && a.From == b.From && a.Sound == b.Sound && maps.Equal(a.Writers, b.Writers) &&
-		slices.EqualFunc(a.Keys, b.Keys, slices.Equal[[]int]) && slices.EqualFunc(a.Reads, b.Reads, slices.Equal[[]order.Read])
-}
-
 // P1: every call ends without a panic, at whatever rows, relations and witnesses, and at many numbers.
 func TestP1NoPanic(t *testing.T) {
-	m := mixed(8)
+	m := sample.Mixed(8)
 	many := make([]int, 1<<16)
 	for i := range many {
 		many[i] = i%200 - 70
 	}
-	rows := [][]int{nil, {}, {0}, {0, 0}, {2, 1, 0, 2}, {-1, 64, 0, 9}, {2, 0, 1}, far, many, many[70:135], many[:65]}
+	rows := [][]int{nil, {}, {0}, {0, 0}, {2, 1, 0, 2}, {-1, 64, 0, 9}, {2, 0, 1}, sample.Far(), many, many[70:135], many[:65]}
 	var full rel.Rel
 	for a := range full {
 		full[a] = math.MaxUint64
 	}
-	levels := append([]int{0, 11, 12}, far...)
+	levels := append([]int{0, 11, 12}, sample.Far()...)
 	for _, n := range []int{0, 1, 3, 64} {
-		h, right, vis := m.made(n, 3)
-		o := follow(t, h)
+		h, right, vis := m.Right(n, 3)
+		o := sample.Follow(t, h)
 		for _, row := range append(rows, right) {
 			for _, k := range levels {
 				Row(k, row)

@@ -1,7 +1,6 @@
 package least
 
 import (
-	"maps"
 	"math"
 	"slices"
 	"testing"
@@ -10,7 +9,7 @@ import (
 	"burgage/level"
 	"burgage/order"
 	"burgage/rel"
-	"burgage/script"
+	"burgage/sample"
 	"burgage/set"
 )
 
@@ -23,94 +22,6 @@ const (
 	total      = 16
 	inTime     = 32
 )
-
-// far: numbers that no transaction has, the nearest and the farthest ones.
-var far = []int{math.MinInt, -1 << 32, -64, -1, 64, 65, 128, 1 << 32, math.MaxInt}
-
-// parsed: the Orders of a history that is told as a text.
-func parsed(t *testing.T, text string) *order.Orders {
-	t.Helper()
-	h, line, e := script.Parse(text)
-	if e != api.OK {
-		t.Fatal("the text is wrong", line, e)
-	}
-	return follow(t, h)
-}
-
-// follow: the Orders of a history that may be.
-func follow(t *testing.T, h []api.Txn) *order.Orders {
-	t.Helper()
-	o, e := order.Of(h)
-	if e != api.OK {
-		t.Fatal("the history is wrong", h, e)
-	}
-	return o
-}
-
-// pairs: the relation in which the first one of each pair stands to the second one.
-func pairs(l ...[2]int) rel.Rel {
-	var r rel.Rel
-	for _, p := range l {
-		r[p[0]] |= 1 << p[1]
-	}
-	return r
-}
-
-// mixed: numbers that are mixed, always the same ones.
-type mixed uint64
-
-func (m *mixed) next(below int) int {
-	*m = *m*6364136223846793005 + 1442695040888963407
-	return int(*m>>33) % below
-}
-
-// row: so many numbers, from 0 on, in a mixed order.
-func (m *mixed) row(n int) []int {
-	var l []int
-	for i := range n {
-		l = slices.Insert(l, m.next(i+1), i)
-	}
-	return l
-}
-
-// history: one that may be, whose transactions are of mixed sessions, at once or not, and read of whomever.
-func (m *mixed) history(txns, sessions, keys int) []api.Txn {
-	h, over, by := make([]api.Txn, txns), map[int]int{}, make([][]int, keys)
-	for i := range h {
-		begin := 100*i + 100
-		commit := begin + 100*m.next(4) + 1 + i
-		s := m.next(sessions)
-		for over[s] > begin {
-			s++
-		}
-		over[s] = commit
-		// A read of a key that nobody writes to, so that there is always an operation.
-		h[i] = api.Txn{Session: s, Begin: begin, Commit: commit, Ops: []api.Op{{Key: 63}}}
-		for key := range keys {
-			if m.next(2) == 0 {
-				by[key] = append(by[key], i)
-			}
-		}
-	}
-	for i := range h {
-		for key, writers := range by {
-			if m.next(2) == 0 {
-				from := m.next(len(writers)+1) - 1
-				h[i].Ops = append(h[i].Ops, api.Op{Key: key})
-				if from >= 0 && writers[from] != i {
-					h[i].Ops[len(h[i].Ops)-1].Value = value(writers[from], key)
-				}
-			}
-			if slices.Contains(writers, i) {
-				h[i].Ops = append(h[i].Ops, api.Op{Write: true, Key: key, Value: value(i, key)})
-			}
-		}
-	}
-	return h
-}
-
-// value: what a transaction writes to a key.
-func value(i, key int) int { return 64*key + i + 1 }
 
 // The model: what must be seen, told pair by pair as the document tells it.
 
@@ -168,7 +79,7 @@ func keeps(r rel.Rel, asks int, row []int) bool {
 // narrow: what Of is to answer of few transactions: what is in all relations of them that hold what they must.
 func narrow(o *order.Orders, asks int, row []int) rel.Rel {
 	must := start(o, asks, row)
-	in := pairs()
+	in := sample.Pairs()
 	for _, a := range row {
 		in[a] = set.Below(len(row))
 	}
@@ -212,8 +123,8 @@ func wide(o *order.Orders, asks int, row []int) rel.Rel {
 const apart = "txn 0 1 2\nw 0 1\nr 1 4\ntxn 0 3 9\nw 0 2\ntxn 1 0 5\nr 0 2\ntxn 2 7 8\nw 1 4\n"
 
 func TestP11_1Base(t *testing.T) {
-	o := parsed(t, apart)
-	from, ofSession, ofTime := pairs([2]int{3, 0}, [2]int{1, 2}), pairs([2]int{0, 1}), pairs([2]int{0, 1}, [2]int{0, 3}, [2]int{2, 3})
+	o := sample.Parsed(t, apart)
+	from, ofSession, ofTime := sample.Pairs([2]int{3, 0}, [2]int{1, 2}), sample.Pairs([2]int{0, 1}), sample.Pairs([2]int{0, 1}, [2]int{0, 3}, [2]int{2, 3})
 	if o.From != from || o.Session != ofSession || o.Time != ofTime {
 		t.Fatal("the history isn't what it was to be")
 	}
@@ -244,10 +155,10 @@ func TestP11_1Base(t *testing.T) {
 }
 
 func TestP11_1BaseOfMixed(t *testing.T) {
-	m := mixed(1)
+	m := sample.Mixed(1)
 	seen := map[rel.Rel]bool{}
-	for i := range 3000 {
-		o := follow(t, m.history(m.next(7), 1+m.next(4), 1+i%3))
+	for i := range 5000 {
+		o := sample.Follow(t, m.History(m.Next(7), 1+i%3))
 		for asks := range 64 {
 			got := Base(o, asks)
 			if got != base(o, asks) || got != Base(o, asks|64) || got != Base(o, asks-64) || got != Base(o, asks+math.MinInt) {
@@ -278,32 +189,32 @@ func TestP11_2Named(t *testing.T) {
 		row        []int
 		want       rel.Rel
 	}{
-		{"the document's example", example, prefix, []int{0, 1, 2}, pairs([2]int{0, 2}, [2]int{1, 2})},
-		{"the document's example, in another order", example, prefix, []int{1, 0, 2}, pairs([2]int{1, 2})},
-		{"the document's example, without Prefix", example, 63 &^ (prefix | total | session | inTime), []int{0, 1, 2}, pairs([2]int{1, 2})},
-		{"what comes behind is seen", example, prefix, []int{2, 0, 1}, pairs([2]int{1, 2}, [2]int{0, 2}, [2]int{2, 2})},
-		{"what comes behind is seen, by Transitive", example, transitive, []int{2, 0, 1}, pairs([2]int{1, 2})},
-		{"what comes behind is seen, by Total", example, total, []int{2, 0, 1}, pairs([2]int{1, 2}, [2]int{2, 0}, [2]int{2, 1}, [2]int{0, 1})},
-		{"rivals", writers, rivalsBit, []int{0, 1, 2, 3}, pairs([2]int{0, 1}, [2]int{1, 2})},
-		{"rivals, the other way", writers, rivalsBit, []int{3, 2, 1, 0}, pairs([2]int{1, 0}, [2]int{2, 1})},
-		{"rivals, far from each other", writers, rivalsBit, []int{1, 3, 2, 0}, pairs([2]int{1, 2}, [2]int{1, 0})},
-		{"rivals, and Transitive", writers, rivalsBit | transitive, []int{0, 1, 2, 3}, pairs([2]int{0, 1}, [2]int{1, 2}, [2]int{0, 2})},
-		{"rivals, and Prefix", writers, rivalsBit | prefix, []int{3, 0, 2, 1}, pairs([2]int{0, 1}, [2]int{2, 1}, [2]int{3, 1})},
+		{"the document's example", example, prefix, []int{0, 1, 2}, sample.Pairs([2]int{0, 2}, [2]int{1, 2})},
+		{"the document's example, in another order", example, prefix, []int{1, 0, 2}, sample.Pairs([2]int{1, 2})},
+		{"the document's example, without Prefix", example, 63 &^ (prefix | total | session | inTime), []int{0, 1, 2}, sample.Pairs([2]int{1, 2})},
+		{"what comes behind is seen", example, prefix, []int{2, 0, 1}, sample.Pairs([2]int{1, 2}, [2]int{0, 2}, [2]int{2, 2})},
+		{"what comes behind is seen, by Transitive", example, transitive, []int{2, 0, 1}, sample.Pairs([2]int{1, 2})},
+		{"what comes behind is seen, by Total", example, total, []int{2, 0, 1}, sample.Pairs([2]int{1, 2}, [2]int{2, 0}, [2]int{2, 1}, [2]int{0, 1})},
+		{"rivals", writers, rivalsBit, []int{0, 1, 2, 3}, sample.Pairs([2]int{0, 1}, [2]int{1, 2})},
+		{"rivals, the other way", writers, rivalsBit, []int{3, 2, 1, 0}, sample.Pairs([2]int{1, 0}, [2]int{2, 1})},
+		{"rivals, sample.Far() from each other", writers, rivalsBit, []int{1, 3, 2, 0}, sample.Pairs([2]int{1, 2}, [2]int{1, 0})},
+		{"rivals, and Transitive", writers, rivalsBit | transitive, []int{0, 1, 2, 3}, sample.Pairs([2]int{0, 1}, [2]int{1, 2}, [2]int{0, 2})},
+		{"rivals, and Prefix", writers, rivalsBit | prefix, []int{3, 0, 2, 1}, sample.Pairs([2]int{0, 1}, [2]int{2, 1}, [2]int{3, 1})},
 		{"nothing", writers, 0, []int{0, 1, 2, 3}, rel.Rel{}},
 		{"nothing of what is asked of what is seen", writers, transitive | prefix, []int{0, 1, 2, 3}, rel.Rel{}},
 		{"all", writers, total, []int{2, 0, 3, 1}, rel.Chain(2, 0, 3, 1)},
-		{"a chain", chain, 0, []int{0, 1, 2, 3}, pairs([2]int{0, 1}, [2]int{1, 2}, [2]int{2, 3})},
+		{"a chain", chain, 0, []int{0, 1, 2, 3}, sample.Pairs([2]int{0, 1}, [2]int{1, 2}, [2]int{2, 3})},
 		{"a chain, by Transitive", chain, transitive, []int{0, 1, 2, 3}, rel.Chain(0, 1, 2, 3)},
 		{"a chain, by Transitive, in whatever order", chain, transitive, []int{3, 1, 0, 2}, rel.Chain(0, 1, 2, 3)},
-		{"a circle", circle, 0, []int{0, 1, 2}, pairs([2]int{0, 1}, [2]int{1, 0})},
-		{"a circle, by Transitive", circle, transitive, []int{0, 1, 2}, pairs([2]int{0, 1}, [2]int{1, 0}, [2]int{0, 0}, [2]int{1, 1})},
-		{"a circle, by Prefix", circle, prefix, []int{0, 2, 1}, pairs([2]int{0, 1}, [2]int{1, 0}, [2]int{0, 0}, [2]int{2, 0})},
-		{"two that are seen, by Prefix alone", both, prefix, []int{4, 0, 1, 2, 3}, pairs([2]int{4, 2}, [2]int{0, 2}, [2]int{1, 2}, [2]int{4, 3}, [2]int{0, 3}, [2]int{1, 3}, [2]int{2, 3})},
+		{"a circle", circle, 0, []int{0, 1, 2}, sample.Pairs([2]int{0, 1}, [2]int{1, 0})},
+		{"a circle, by Transitive", circle, transitive, []int{0, 1, 2}, sample.Pairs([2]int{0, 1}, [2]int{1, 0}, [2]int{0, 0}, [2]int{1, 1})},
+		{"a circle, by Prefix", circle, prefix, []int{0, 2, 1}, sample.Pairs([2]int{0, 1}, [2]int{1, 0}, [2]int{0, 0}, [2]int{2, 0})},
+		{"two that are seen, by Prefix alone", both, prefix, []int{4, 0, 1, 2, 3}, sample.Pairs([2]int{4, 2}, [2]int{0, 2}, [2]int{1, 2}, [2]int{4, 3}, [2]int{0, 3}, [2]int{1, 3}, [2]int{2, 3})},
 		{"two that are seen, by Rivals and Transitive", both, rivalsBit | transitive, []int{4, 0, 1, 2, 3}, rel.Chain(0, 1, 2, 3)},
 		{"two that are seen, by Rivals and Prefix", both, rivalsBit | prefix, []int{4, 0, 1, 2, 3}, rel.Chain(0, 1, 2, 3).Union(rel.Chain(4, 1)).Union(rel.Chain(4, 2)).Union(rel.Chain(4, 3))},
 	}
 	for _, c := range cases {
-		o := parsed(t, c.text)
+		o := sample.Parsed(t, c.text)
 		if got := Of(o, c.asks, c.row...); got != c.want {
 			t.Errorf("%s: Of = %v, not %v", c.what, got[:5], c.want[:5])
 		}
@@ -316,16 +227,16 @@ func TestP11_2Named(t *testing.T) {
 
 // Session and Time call for more, too.
 func TestP11_2OfBase(t *testing.T) {
-	o := parsed(t, apart)
+	o := sample.Parsed(t, apart)
 	cases := []struct {
 		asks int
 		want rel.Rel
 	}{
-		{session, pairs([2]int{3, 0}, [2]int{1, 2}, [2]int{0, 1})},
-		{session | transitive, pairs([2]int{3, 0}, [2]int{1, 2}, [2]int{0, 1}, [2]int{3, 1}, [2]int{3, 2}, [2]int{0, 2})},
-		{session | prefix, pairs([2]int{3, 0}, [2]int{1, 2}, [2]int{0, 1}, [2]int{0, 2}, [2]int{3, 1}, [2]int{3, 2})},
-		{inTime, pairs([2]int{3, 0}, [2]int{1, 2}, [2]int{0, 1}, [2]int{0, 3}, [2]int{2, 3})},
-		{inTime | transitive, pairs([2]int{0, 0}, [2]int{0, 1}, [2]int{0, 2}, [2]int{0, 3}, [2]int{1, 0}, [2]int{1, 1}, [2]int{1, 2}, [2]int{1, 3}, [2]int{2, 0}, [2]int{2, 1}, [2]int{2, 2}, [2]int{2, 3}, [2]int{3, 0}, [2]int{3, 1}, [2]int{3, 2}, [2]int{3, 3})},
+		{session, sample.Pairs([2]int{3, 0}, [2]int{1, 2}, [2]int{0, 1})},
+		{session | transitive, sample.Pairs([2]int{3, 0}, [2]int{1, 2}, [2]int{0, 1}, [2]int{3, 1}, [2]int{3, 2}, [2]int{0, 2})},
+		{session | prefix, sample.Pairs([2]int{3, 0}, [2]int{1, 2}, [2]int{0, 1}, [2]int{0, 2}, [2]int{3, 1}, [2]int{3, 2})},
+		{inTime, sample.Pairs([2]int{3, 0}, [2]int{1, 2}, [2]int{0, 1}, [2]int{0, 3}, [2]int{2, 3})},
+		{inTime | transitive, sample.Pairs([2]int{0, 0}, [2]int{0, 1}, [2]int{0, 2}, [2]int{0, 3}, [2]int{1, 0}, [2]int{1, 1}, [2]int{1, 2}, [2]int{1, 3}, [2]int{2, 0}, [2]int{2, 1}, [2]int{2, 2}, [2]int{2, 3}, [2]int{3, 0}, [2]int{3, 1}, [2]int{3, 2}, [2]int{3, 3})},
 	}
 	for _, c := range cases {
 		if got := Of(o, c.asks, 3, 0, 1, 2); got != c.want {
@@ -336,10 +247,10 @@ func TestP11_2OfBase(t *testing.T) {
 
 // Of few transactions all relations are gone through, so that it is told which is the least one.
 func TestP11_2IsLeast(t *testing.T) {
-	m := mixed(7)
+	m := sample.Mixed(7)
 	for i := range 400 {
 		n := i % 4
-		o, row := follow(t, m.history(n, 1+m.next(3), 1+m.next(3))), m.row(n)
+		o, row := sample.Follow(t, m.History(n, 1+m.Next(3))), m.Row(n)
 		for asks := range 64 {
 			want := narrow(o, asks, row)
 			if got := Of(o, asks, row...); got != want {
@@ -353,16 +264,16 @@ func TestP11_2IsLeast(t *testing.T) {
 }
 
 func TestP11_2OfMixed(t *testing.T) {
-	m := mixed(3)
+	m := sample.Mixed(3)
 	forward, backward := 0, 0
 	for i := range 1500 {
-		n := m.next(7)
+		n := m.Next(7)
 		if i%50 == 0 {
-			n = 40 + m.next(25)
+			n = 40 + m.Next(25)
 		}
-		o, row := follow(t, m.history(n, 1+m.next(4), 1+i%3)), m.row(n)
+		o, row := sample.Follow(t, m.History(n, 1+i%3)), m.Row(n)
 		for range 12 {
-			asks := m.next(64)
+			asks := m.Next(64)
 			want := wide(o, asks, row)
 			if got := Of(o, asks, row...); got != want {
 				t.Fatalf("Of %d, %v = %v, not %v: %+v", asks, row, got[:8], want[:8], o)
@@ -390,7 +301,7 @@ func TestP11_2Edges(t *testing.T) {
 		}
 		h, row = append(h, api.Txn{Session: 63 - i, Begin: i, Commit: 100 + i, Ops: ops}), append(row, i)
 	}
-	none, long := follow(t, nil), follow(t, h)
+	none, long := sample.Follow(t, nil), sample.Follow(t, h)
 	back := slices.Clone(row)
 	slices.Reverse(back)
 	for asks := range 64 {
@@ -411,7 +322,7 @@ func TestP11_2Edges(t *testing.T) {
 
 // What levels ask is told by layer 9, and asks for these bits.
 func TestP11_2OfLevels(t *testing.T) {
-	o := parsed(t, "txn 0 0 1\nw 0 1\ntxn 0 4 7\nw 1 2\ntxn 1 5 8\nr 0 0\nr 1 2\ntxn 2 9 10\nw 0 3\n")
+	o := sample.Parsed(t, "txn 0 0 1\nw 0 1\ntxn 0 4 7\nw 1 2\ntxn 1 5 8\nr 0 0\nr 1 2\ntxn 2 9 10\nw 0 3\n")
 	for l := range api.Level(level.Many) {
 		for _, row := range [][]int{{0, 1, 2, 3}, {2, 1, 3, 0}, {3, 0, 1, 2}} {
 			if got, want := Of(o, level.Asks(l), row...), wide(o, level.Asks(l), row); got != want {
@@ -425,14 +336,14 @@ func TestP11_2OfLevels(t *testing.T) {
 }
 
 func TestP11_3Sees(t *testing.T) {
-	r := pairs([2]int{0, 0}, [2]int{0, 5}, [2]int{63, 5}, [2]int{7, 63}, [2]int{63, 63}, [2]int{5, 7})
+	r := sample.Pairs([2]int{0, 0}, [2]int{0, 5}, [2]int{63, 5}, [2]int{7, 63}, [2]int{63, 63}, [2]int{5, 7})
 	want := map[int]set.Set{0: set.Of(0), 5: set.Of(0, 63), 63: set.Of(7, 63), 7: set.Of(5)}
 	for i := -70; i < 140; i++ {
 		if got := Sees(r, i); got != want[i] {
 			t.Errorf("Sees %d = %v, not %v", i, got.List(), want[i].List())
 		}
 	}
-	for _, i := range far {
+	for _, i := range sample.Far() {
 		var full rel.Rel
 		for a := range full {
 			full[a] = math.MaxUint64
@@ -441,12 +352,12 @@ func TestP11_3Sees(t *testing.T) {
 			t.Error("Sees", i)
 		}
 	}
-	m := mixed(5)
+	m := sample.Mixed(5)
 	for range 300 {
 		var r rel.Rel
 		for a := range r {
-			for range m.next(9) {
-				r[a] |= 1 << m.next(64)
+			for range m.Next(9) {
+				r[a] |= 1 << m.Next(64)
 			}
 		}
 		for i := range 64 {
@@ -463,29 +374,13 @@ func TestP11_3Sees(t *testing.T) {
 	}
 }
 
-// copied: Orders that share nothing with others.
-func copied(o *order.Orders) *order.Orders {
-	c := *o
-	c.Writers, c.Keys, c.Reads = maps.Clone(o.Writers), nil, nil
-	for i := range o.N {
-		c.Keys, c.Reads = append(c.Keys, slices.Clone(o.Keys[i])), append(c.Reads, slices.Clone(o.Reads[i]))
-	}
-	return &c
-}
-
-// same: whether two Orders are the same.
-func same(a, b *order.Orders) bool {
-	return a.N == b.N && a.Session == b.Session && a.Time == b.Time && a.From == b.From && a.Sound == b.Sound && maps.Equal(a.Writers, b.Writers) &&
-		slices.EqualFunc(a.Keys, b.Keys, slices.Equal[[]int]) && slices.EqualFunc(a.Reads, b.Reads, slices.Equal[[]order.Read])
-}
-
 // P2: neither the Orders nor the row, its spare room too, are changed or kept; the answer is the same each time.
 func TestP2Apart(t *testing.T) {
-	m := mixed(9)
+	m := sample.Mixed(9)
 	for range 200 {
-		n := m.next(7)
-		o, row := follow(t, m.history(n, 2, 2)), m.row(n)
-		was, room := copied(o), append(slices.Clone(row), 77, 78, 79)
+		n := m.Next(7)
+		o, row := sample.Follow(t, m.History(n, 2)), m.Row(n)
+		was, room := sample.Copied(o), append(slices.Clone(row), 77, 78, 79)
 		for asks := range 64 {
 			b, r := Base(o, asks), Of(o, asks, room[:n]...)
 			again := r
@@ -495,7 +390,7 @@ func TestP2Apart(t *testing.T) {
 				t.Fatal("another answer", asks, row, o)
 			}
 		}
-		if !same(o, was) || !slices.Equal(room, append(slices.Clone(row), 77, 78, 79)) {
+		if !sample.Same(o, was) || !slices.Equal(room, append(slices.Clone(row), 77, 78, 79)) {
 			t.Fatal("what was handed in is changed", o, room)
 		}
 	}
@@ -503,15 +398,15 @@ func TestP2Apart(t *testing.T) {
 
 // P1: every call ends without a panic, at rows that have none, or other numbers, or many.
 func TestP1NoPanic(t *testing.T) {
-	m := mixed(11)
+	m := sample.Mixed(11)
 	many := make([]int, 1<<16)
 	for i := range many {
 		many[i] = i%200 - 70
 	}
-	rows := [][]int{nil, {}, {0}, {0, 0}, {2, 1, 0, 2}, {-1, 64, 0, 9}, far, many}
+	rows := [][]int{nil, {}, {0}, {0, 0}, {2, 1, 0, 2}, {-1, 64, 0, 9}, sample.Far(), many}
 	for _, n := range []int{0, 1, 3, 64} {
-		o := follow(t, m.history(n, 3, 3))
-		for _, asks := range append([]int{-2, 62, 63, 64, 255}, far...) {
+		o := sample.Follow(t, m.History(n, 3))
+		for _, asks := range append([]int{-2, 62, 63, 64, 255}, sample.Far()...) {
 			Base(o, asks)
 			for _, row := range rows {
 				Of(o, asks, row...)
