@@ -235,6 +235,33 @@ func Same(a, b *order.Orders) bool {
 		slices.EqualFunc(a.Keys, b.Keys, slices.Equal[[]int]) && slices.EqualFunc(a.Reads, b.Reads, slices.Equal[[]order.Read])
 }
 
+// SameWitness: are two witnesses the same? None: is a witness the zero one?
+func SameWitness(a, b api.Witness) bool {
+	return slices.Equal(a.Order, b.Order) && slices.EqualFunc(a.Sees, b.Sees, slices.Equal[[]int])
+}
+
+func None(w api.Witness) bool { return len(w.Order) == 0 && len(w.Sees) == 0 }
+
+// Kept: a witness that shares nothing with another one. Scratch: overwrites a witness, and the room behind its lists.
+func Kept(w api.Witness) api.Witness {
+	k := api.Witness{Order: slices.Clone(w.Order)}
+	for _, seen := range w.Sees {
+		k.Sees = append(k.Sees, slices.Clone(seen))
+	}
+	return k
+}
+
+func Scratch(w api.Witness) {
+	_ = append(w.Order, 50, 51, 52)
+	clear(w.Order)
+	for _, seen := range w.Sees {
+		_ = append(seen, 50, 51, 52)
+		clear(seen)
+	}
+	_ = append(w.Sees, nil, nil)
+	clear(w.Sees)
+}
+
 // Far: numbers that no transaction has, no key and no level, the nearest and the farthest ones.
 func Far() []int {
 	return []int{math.MinInt, math.MinInt + 7, -1 << 32, -64, -1, 64, 65, 128, 1 << 32, 1<<32 + 1, math.MaxInt}
