@@ -160,6 +160,49 @@ func Read(key, from int) api.Op {
 // value: what a transaction writes to a key.
 func value(key, i int) int { return 64*key + i + 1 }
 
+// Names: other names, or the same ones, for all that is in a history, by which it stays what it is: of keys, sessions, values and stamps, and a row in which its transactions may come.
+func (m *Mixed) Names(h []api.Txn) (keys, sessions, values, stamps map[int]int, row []int) {
+	var written, all []int
+	for i, t := range h {
+		all = append(all, t.Begin, t.Commit)
+		// It comes behind whoever is ahead of it in its session.
+		least := 0
+		for k, a := range row {
+			if h[a].Session == t.Session {
+				least = k + 1
+			}
+		}
+		row = slices.Insert(row, least+m.Next(len(row)-least+1), i)
+		for _, o := range t.Ops {
+			if o.Write {
+				written = append(written, o.Value)
+			}
+		}
+	}
+	first, step := 1+m.Next(3), 1+m.Next(1000)*m.Next(1000)
+	values = map[int]int{}
+	for k, n := range m.Row(len(written)) {
+		values[written[k]] = first + step*n
+	}
+	next := m.Next(3)
+	stamps = map[int]int{}
+	slices.Sort(all)
+	for _, stamp := range all {
+		stamps[stamp] = next
+		next += 1 + m.Next(5)*m.Next(1000)
+	}
+	return numbered(m.Row(64)), numbered(m.Row(64)), values, stamps, row
+}
+
+// numbered: of each number, from 0 on, what stands there in a row.
+func numbered(row []int) map[int]int {
+	of := map[int]int{}
+	for i, n := range row {
+		of[i] = n
+	}
+	return of
+}
+
 // Apart: so many transactions that have nothing to do with each other, of as many sessions, all at once, each of which writes to the key of its number.
 func Apart(many int) []api.Txn {
 	var h []api.Txn

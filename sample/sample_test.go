@@ -1,6 +1,7 @@
 package sample
 
 import (
+	"maps"
 	"slices"
 	"testing"
 
@@ -42,6 +43,50 @@ func equal(a, b []api.Txn) bool {
 	return slices.EqualFunc(a, b, func(x, y api.Txn) bool {
 		return x.Session == y.Session && x.Begin == y.Begin && x.Commit == y.Commit && slices.Equal(x.Ops, y.Ops)
 	})
+}
+
+// Names keep what a history is: each thing has one of its own, later stamps have later ones, and no session goes back.
+func TestNames(t *testing.T) {
+	m, again := Mixed(1), Mixed(1)
+	bent := 0
+	for n := range 65 {
+		h := m.History(n, 1+n%5)
+		again.History(n, 1+n%5)
+		keys, sessions, values, stamps, row := m.Names(h)
+		keys2, sessions2, values2, stamps2, row2 := again.Names(h)
+		if !maps.Equal(keys, keys2) || !maps.Equal(sessions, sessions2) || !maps.Equal(values, values2) || !maps.Equal(stamps, stamps2) || !slices.Equal(row, row2) {
+			t.Fatal("other names", h)
+		}
+		var x []api.Txn
+		for _, i := range row {
+			r := api.Txn{Session: sessions[h[i].Session], Begin: stamps[h[i].Begin], Commit: stamps[h[i].Commit]}
+			for _, o := range h[i].Ops {
+				r.Ops = append(r.Ops, api.Op{Write: o.Write, Key: keys[o.Key], Value: values[o.Value]})
+			}
+			x = append(x, r)
+		}
+		if _, e := order.Of(x); e != api.OK || len(row) != n || len(slices.Compact(slices.Sorted(slices.Values(row)))) != n {
+			t.Fatal("such a history may not be", e, x)
+		}
+		for _, names := range []map[int]int{keys, sessions, values, stamps} {
+			if len(slices.Compact(slices.Sorted(maps.Values(names)))) != len(names) {
+				t.Fatal("two have one name", names)
+			}
+		}
+		for _, a := range slices.Collect(maps.Keys(stamps)) {
+			for b, name := range stamps {
+				if (a < b) != (stamps[a] < name) {
+					t.Fatal("a later stamp is by an earlier name", a, b)
+				}
+			}
+		}
+		if !slices.IsSorted(row) {
+			bent++
+		}
+	}
+	if bent == 0 {
+		t.Error("all come as they are")
+	}
 }
 
 func TestRows(t *testing.T) {
